@@ -1,0 +1,1 @@
+"""Yearly payments that hang on lives, weighed in exact parts."""
