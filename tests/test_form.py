@@ -98,6 +98,45 @@ class FormTest(unittest.TestCase):
             if isinstance(node, ast.Name) and hasattr(builtins, node.id):
                 self.assertIn(node.id, OWN, place)
 
+    def test_no_parameter_or_local_is_called_like_a_class_or_an_import_of_its_file(self):
+        for path in FILES:
+            tree = ast.parse(path.read_text(encoding="ascii"))
+            taken = {drawn.name for node in tree.body if isinstance(node, ast.ImportFrom) for drawn in node.names}
+            taken |= {node.name for node in tree.body if isinstance(node, ast.ClassDef)}
+            for node in ast.walk(tree):
+                if isinstance(node, (ast.arg, ast.Name)) or (isinstance(node, ast.FunctionDef) and node in tree.body):
+                    self.assertEqual(taken & set(bound_names(node)), set(), f"{path.name}:{node.lineno}")
+
+    def test_no_name_is_a_method_and_a_value(self):
+        methods = set()
+        values = set()
+        for place, node in walk_files():
+            if isinstance(node, ast.ClassDef):
+                methods |= {row.name for row in node.body if isinstance(row, ast.FunctionDef)}
+            if isinstance(node, ast.Attribute) and isinstance(node.ctx, ast.Store):
+                values.add(node.attr)
+        self.assertEqual(methods & values, set())
+
+    def test_a_name_is_drawn_from_the_file_that_defines_it(self):
+        for place, node in walk_files():
+            if isinstance(node, ast.ImportFrom):
+                tree = ast.parse((PACKAGE / (node.module.split(".")[1] + ".py")).read_text(encoding="ascii"))
+                defined = {name for row in tree.body if not isinstance(row, ast.ImportFrom)
+                           for inner in [row] + getattr(row, "targets", []) for name in bound_names(inner)}
+                for drawn in node.names:
+                    self.assertIn(drawn.name, defined, place)
+
+    def test_no_two_files_draw_from_one_another(self):
+        draws = {}
+        for path in FILES:
+            tree = ast.parse(path.read_text(encoding="ascii"))
+            draws[path.stem] = {node.module.split(".")[1] for node in tree.body if isinstance(node, ast.ImportFrom)}
+        while draws:
+            free = [name for name in draws if not draws[name] & set(draws)]
+            self.assertNotEqual(free, [], sorted(draws))
+            for name in free:
+                del draws[name]
+
 
 if __name__ == "__main__":
     unittest.main()

@@ -3,30 +3,14 @@ from fractions import Fraction
 from math import gcd
 
 from tests.refusals import RefusalCase
+from tests.samples import BAD_RATES, LONG, RATES, SMALL, TABLES, as_part, chance_to_live
 from yearpledge.errors import BadRate, BadTable, NoYear
-from yearpledge.tables import Table, later
-
-LONG = 10 ** 5000
-SMALL = [(1, 4), (2, 4), (0, 7), (30, 10000), (6, 6)]
-TWENTY = [(age, 9900 + 5 * age) for age in range(19)] + [(10000, 10000)]
-TABLES = ([(1, 1)], [(10000, 10000)], [(0, 3), (4, 4)], SMALL, TWENTY)
-
-
-def as_part(fraction):
-    return (fraction.numerator, fraction.denominator)
-
-
-def chance_to_live(chances, age, years):
-    alive = Fraction(1)
-    for year in range(years):
-        dying = Fraction(*chances[age + year]) if age + year < len(chances) else Fraction(1)
-        alive *= 1 - dying
-    return alive
+from yearpledge.tables import Table, later, worth_now
 
 
 class TableTest(RefusalCase):
     def test_ages(self):
-        self.assertEqual([Table(chances).ages() for chances in TABLES], [1, 1, 2, 5, 20])
+        self.assertEqual([Table(chances).ages() for chances in TABLES], [1, 1, 2, 4, 5, 5, 20])
 
     def test_dies_in_lowest_terms(self):
         table = Table(SMALL)
@@ -214,17 +198,26 @@ class LaterTest(RefusalCase):
                     self.assertTrue(told == as_part(Fraction(*rate) ** years))
 
 
-class BadRateTest(RefusalCase):
-    BAD = ((0, 1), (0, 10000), (-1, 2), (-1, -2), (-2, -1), (-1, -1), (0, 0), (1, 0), (1, -1), (2, 1), (10000, 9999),
-           (10001, 10000), (1, 10001), (10001, 10001), (5000, 20000), (LONG, LONG), (1, LONG), (-LONG, 1))
+class WorthNowTest(RefusalCase):
+    def test_of_nothing(self):
+        self.assertEqual(worth_now((9, 10), []), (0, 1))
 
+    def test_each_part_is_worth_the_rate_so_many_times(self):
+        row = [(1, 2), (-3, 1), (0, 1), (5, 7)]
+        for rate in RATES:
+            asked = sum(Fraction(*one) * Fraction(*rate) ** year for year, one in enumerate(row))
+            self.assertEqual(worth_now(rate, row), as_part(asked))
+        self.assertEqual(row, [(1, 2), (-3, 1), (0, 1), (5, 7)])
+
+
+class BadRateTest(RefusalCase):
     def test_what_is_no_rate(self):
-        for rate in self.BAD:
+        for rate in BAD_RATES:
             for years in (0, 1, 5):
                 self.assert_refused(BadRate, later, rate, years)
 
     def test_bad_rate_ahead_of_no_year(self):
-        for rate in self.BAD:
+        for rate in BAD_RATES:
             self.assert_refused(BadRate, later, rate, -1)
 
     def test_years_below_nought(self):

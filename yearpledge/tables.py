@@ -1,7 +1,7 @@
 """Tables of the chances to die within the year, and what a coin of a later year is worth."""
 
 from yearpledge.errors import BadRate, BadTable, NoYear
-from yearpledge.parts import NOUGHT, ONE, less, part, times
+from yearpledge.parts import NOUGHT, ONE, less, part, plus, times
 
 MOST_AGES = 20
 MOST_UNDER = 10000
@@ -78,3 +78,12 @@ def later(rate, years):
         top = top * yearly[0]
         under = under * yearly[1]
     return (top, under)
+
+
+def worth_now(rate, row):
+    yearly = later(rate, 1)
+    total = NOUGHT
+    # From the last year back: all that comes later is worth the rate times itself a year earlier.
+    for coins in reversed(row):
+        total = plus(coins, times(yearly, total))
+    return total
